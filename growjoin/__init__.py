@@ -1,0 +1,1 @@
+"""Growjoin: worths that grow by joining, agreed by hands."""
