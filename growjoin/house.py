@@ -30,7 +30,8 @@ class House:
         self.form = kind
         self.row = [Hand(bottom(kind)) for place in range(hands)]
         self.post = []
-        self.brought = {}
+        # The numbers of the letters that were never brought, rising.
+        self.unbrought = {}
         self.wishes = 0
         self.events = []
 
@@ -60,7 +61,7 @@ class House:
         return list(self.post)
 
     def waiting(self):
-        return [letter[0] for letter in self.post if letter[0] not in self.brought]
+        return list(self.unbrought)
 
     def history(self):
         return list(self.events)
@@ -83,7 +84,7 @@ class House:
         """Bring a letter to its receiver; tells whether it came or was lost."""
         if not is_whole(number) or not 1 <= number <= len(self.post):
             raise NoLetter(number)
-        self.brought[number] = True
+        self.unbrought.pop(number, None)
         sender, receiver, body = self.post[number - 1][1:]
         if self.row[receiver].down:
             return "lost"
@@ -142,7 +143,9 @@ class House:
         return len(receivers)
 
     def send(self, sender, receiver, body):
-        self.post.append((len(self.post) + 1, sender, receiver, body))
+        number = len(self.post) + 1
+        self.post.append((number, sender, receiver, body))
+        self.unbrought[number] = True
 
     def answer(self, hand, asking, worth):
         """Let the hand hold the asked worth too; tells the body of its answer."""

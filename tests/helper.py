@@ -1,5 +1,7 @@
 """What several tests need: kinds, worths, odd things, and joins told in another way."""
 
+from growjoin.cells import Cells
+from growjoin.house import House
 from growjoin.joins import join, under
 
 NAMES = ("names",)
@@ -124,6 +126,70 @@ def snapshot(house):
         [house.asks(hand) for hand in hands], [house.told(hand) for hand in hands],
         [house.has_fallen(hand) for hand in hands],
     )
+
+
+def snapshot_of_cells(cells, hands):
+    """All that can be asked of cells of so many hands."""
+    history = cells.history()
+    deeds = [event[1] for event in history if event[0] == "begin"]
+    return (
+        cells.letters(), cells.waiting(), history, [cells.result(deed) for deed in deeds],
+        [cells.has_fallen(hand) for hand in range(hands)],
+    )
+
+
+def run_house(chance, kind, hands, most_falls, steps=60):
+    """Wish, bring letters (new, late or again), send anew and fall by chance; the house behind it."""
+    house = House(kind, hands)
+    falls = 0
+    for _ in range(chance.randrange(5, steps)):
+        dice = chance.random()
+        standing = [hand for hand in range(hands) if not house.has_fallen(hand)]
+        if dice < 0.25 and standing:
+            house.wish(chance.choice(standing), worth_of(chance, kind))
+        elif dice < 0.28 and falls < most_falls:
+            house.fall(chance.choice(standing))
+            falls += 1
+        elif dice < 0.32 and standing:
+            house.again(chance.choice(standing))
+        elif dice < 0.5 and house.letters():
+            house.deliver(chance.randrange(len(house.letters())) + 1)
+        elif house.waiting():
+            house.deliver(chance.choice(house.waiting()))
+    return house
+
+
+def free_hands(cells, hands):
+    """The hands that stand and have no deed that is not over."""
+    history = cells.history()
+    over = {event[1] for event in history if event[0] == "end"}
+    busy = {event[2] for event in history if event[0] == "begin" and event[1] not in over}
+    return [hand for hand in range(hands) if hand not in busy and not cells.has_fallen(hand)]
+
+
+def run_cells(chance, hands, most_falls, steps=80):
+    """Write, look, bring letters (new, late or again), send anew and fall by chance; the cells behind it."""
+    cells = Cells(hands)
+    falls = 0
+    for step in range(chance.randrange(5, steps)):
+        dice = chance.random()
+        free = free_hands(cells, hands)
+        standing = [hand for hand in range(hands) if not cells.has_fallen(hand)]
+        if dice < 0.2 and free:
+            # No number twice, so that a look tells which write it saw.
+            cells.write(chance.choice(free), chance.choice([-1, 1]) * (step + 1))
+        elif dice < 0.4 and free:
+            cells.look(chance.choice(free))
+        elif dice < 0.43 and falls < most_falls:
+            cells.fall(chance.choice(standing))
+            falls += 1
+        elif dice < 0.47 and standing:
+            cells.again(chance.choice(standing))
+        elif dice < 0.6 and cells.letters():
+            cells.deliver(chance.randrange(len(cells.letters())) + 1)
+        elif cells.waiting():
+            cells.deliver(chance.choice(cells.waiting()))
+    return cells
 
 
 def comparable(kind, one, other):

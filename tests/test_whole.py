@@ -6,7 +6,7 @@ import unittest
 
 from growjoin.house import House
 from growjoin.joins import bottom, under
-from helper import LAST, MOST, NAMES, SOME_KINDS, comparable, each, joined, worth_of
+from helper import LAST, MOST, NAMES, SOME_KINDS, comparable, each, joined, run_house, worth_of
 
 
 def tellings(history):
@@ -64,32 +64,12 @@ class Checks(unittest.TestCase):
 
 
 class ManyOrders(Checks):
-    def run_house(self, chance, kind, hands, most_falls):
-        """Wish, bring letters (new, late or again), send anew and fall by chance; the house behind it."""
-        house = House(kind, hands)
-        falls = 0
-        for _ in range(chance.randrange(5, 60)):
-            dice = chance.random()
-            standing = [hand for hand in range(hands) if not house.has_fallen(hand)]
-            if dice < 0.25 and standing:
-                house.wish(chance.choice(standing), worth_of(chance, kind))
-            elif dice < 0.28 and falls < most_falls:
-                house.fall(chance.choice(standing))
-                falls += 1
-            elif dice < 0.32 and standing:
-                house.again(chance.choice(standing))
-            elif dice < 0.5 and house.letters():
-                house.deliver(chance.randrange(len(house.letters())) + 1)
-            elif house.waiting():
-                house.deliver(chance.choice(house.waiting()))
-        return house
-
     def test_some_fall_and_some_letters_never_come(self):
         chance = random.Random(11)
         for _ in range(1200):
             hands = chance.choice([1, 2, 3, 3, 4, 5, 7])
             kind = chance.choice(SOME_KINDS)
-            house = self.run_house(chance, kind, hands, hands)
+            house = run_house(chance, kind, hands, hands)
             self.check_history(kind, house.history())
 
     def test_fewer_than_half_fall_and_all_letters_come(self):
@@ -99,7 +79,7 @@ class ManyOrders(Checks):
         for _ in range(1200):
             hands = chance.choice([1, 2, 3, 3, 4, 5, 7, 9])
             kind = chance.choice(SOME_KINDS)
-            house = self.run_house(chance, kind, hands, (hands - 1) // 2)
+            house = run_house(chance, kind, hands, (hands - 1) // 2)
             while house.waiting():
                 house.deliver(chance.choice(house.waiting()))
             self.check_history(kind, house.history())
