@@ -18,6 +18,16 @@ class Hand:
         self.answers = {}
         self.down = False
 
+    def twin(self):
+        other = Hand(self.holding)
+        other.saved = self.saved
+        other.tellings = list(self.tellings)
+        other.asking = self.asking
+        other.asked = self.asked
+        other.answers = dict(self.answers)
+        other.down = self.down
+        return other
+
 
 class House:
     """Hands numbered from 0 on, and the letters between them."""
@@ -65,6 +75,16 @@ class House:
 
     def history(self):
         return list(self.events)
+
+    def twin(self):
+        """A house that is as this one is now; from now on each goes its own way."""
+        other = House(self.form, len(self.row))
+        other.row = [one.twin() for one in self.row]
+        other.post = list(self.post)
+        other.unbrought = dict(self.unbrought)
+        other.wishes = self.wishes
+        other.events = list(self.events)
+        return other
 
     def wish(self, hand, worth):
         """Join the worth to the hand's purse; tells the number of the wish."""

@@ -3,7 +3,7 @@
 import inspect
 import unittest
 
-from growjoin import cells, chains, house, joins, roads
+from growjoin import cells, chains, ends, house, joins, orders, roads, texts
 
 FUNCTIONS = {
     joins: {
@@ -15,6 +15,16 @@ FUNCTIONS = {
     },
     roads: {
         "play": "(house, numbers)", "drive": "(house, wishes, *, most=2000)",
+    },
+    orders: {
+        "ties": "(history)", "strange": "(history)", "order": "(history)", "ring": "(history)",
+        "is_order": "(history, row)",
+    },
+    ends: {
+        "ends": "(kind, ones, others)", "way": "(kind, ones, others, end)",
+    },
+    texts: {
+        "show_kind": "(kind)", "show_worth": "(kind, worth)", "read_kind": "(text)", "read_worth": "(kind, text)",
     },
 }
 METHODS = {

@@ -5,60 +5,9 @@ import random
 import unittest
 
 from growjoin.cells import Cells
+from growjoin.orders import is_order, order, ring, strange
 from growjoin.roads import drive
-from helper import run_cells
-
-
-class Tale:
-    """A history of cells, read: deeds with what each did, saw, and when it began and ended."""
-
-    def __init__(self, history):
-        self.begun = {event[1]: at for at, event in enumerate(history) if event[0] == "begin"}
-        self.ended = {event[1]: at for at, event in enumerate(history) if event[0] == "end"}
-        self.told = {event[1]: event[2] for event in history if event[0] == "end"}
-        self.doer = {event[1]: event[2] for event in history if event[0] == "begin"}
-        self.number = {event[1]: event[4] for event in history if event[0] == "begin" and event[3] == "write"}
-        self.writes = {}
-        for deed in self.number:
-            self.writes.setdefault(self.doer[deed], []).append(deed)
-        self.looks = [deed for deed in self.ended if deed not in self.number]
-        self.sees = {look: self.seen_by(look) for look in self.looks}
-        seen = set().union(*self.sees.values())
-        self.counting = sorted(set(self.ended) | {deed for deed in self.number if deed in seen})
-
-    def seen_by(self, look):
-        """All writes that the look sees; what it tells must have been written."""
-        seen = set()
-        for hand, number in self.told[look]:
-            numbers = [self.number[deed] for deed in self.writes[hand]]
-            seen |= set(self.writes[hand][:numbers.index(number) + 1])
-        return seen
-
-    def ended_ahead(self, one, other):
-        return one in self.ended and self.ended[one] < self.begun[other]
-
-    def must_lead(self, one, other):
-        """Whether one must stand ahead of other in any order."""
-        if one == other:
-            return False
-        if self.ended_ahead(one, other):
-            return True
-        if one in self.number and other in self.number:
-            return self.doer[one] == self.doer[other] and self.begun[one] < self.begun[other]
-        if one in self.number and other in self.sees:
-            return one in self.sees[other]
-        return one in self.sees and other in self.number and other not in self.sees[one]
-
-    def find_order(self):
-        """The deeds that count in an order in which all that must lead does, or None."""
-        left, row = list(self.counting), []
-        while left:
-            free = [deed for deed in left if not any(self.must_lead(other, deed) for other in left)]
-            if not free:
-                return None
-            row.append(free[0])
-            left.remove(free[0])
-        return row
+from helper import Tale, run_cells
 
 
 class Checks(unittest.TestCase):
@@ -68,6 +17,7 @@ class Checks(unittest.TestCase):
         tale = Tale(history)
         self.check_looks(tale)
         self.check_order(tale)
+        self.check_told_order(history)
         return tale
 
     def check_looks(self, tale):
@@ -98,13 +48,22 @@ class Checks(unittest.TestCase):
             for later in row[place + 1:]:
                 self.assertFalse(tale.ended_ahead(later, deed))
 
+    def check_told_order(self, history):
+        """An order is told, and new cells at which its deeds are done one by one tell what was told."""
+        tale = Tale(history)
+        row = order(history)
+        self.assertEqual(sorted(row), tale.counting)
+        self.assertTrue(tale.keeps_time(row))
+        self.assertTrue(tale.is_done_so(row))
+        self.assertEqual((is_order(history, row), strange(history), ring(history)), (True, None, None))
+
 
 class ManyOrders(Checks):
     def test_some_fall_and_some_letters_never_come(self):
         chance = random.Random(41)
         falls = looks = open_writes = 0
         for _ in range(900):
-            hands = chance.choice([1, 2, 3, 3, 4, 5, 7])
+            hands = chance.choice([1, 2, 3, 3, 4, 5, 6, 7, 8, 9])
             most_falls = chance.choice([0, (hands - 1) // 2, hands])
             history = run_cells(chance, hands, most_falls, chance.choice([40, 80, 300])).history()
             tale = self.check_history(history)
@@ -119,7 +78,7 @@ class ManyOrders(Checks):
     def test_fewer_than_half_fall_and_all_letters_come(self):
         chance = random.Random(42)
         for _ in range(400):
-            hands = chance.choice([1, 2, 3, 3, 4, 5, 7, 9])
+            hands = chance.choice([1, 2, 3, 3, 4, 5, 6, 7, 8, 9])
             cells = run_cells(chance, hands, (hands - 1) // 2, 120)
             drive(cells, [chance.randrange(1000) for _ in range(chance.randrange(7))])
             tale = self.check_history(cells.history())
